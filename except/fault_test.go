@@ -12,15 +12,15 @@ import (
 // Where the gates of a ladder lead: the one of a vector to this place, and 16 times it.
 const ladderPlace = 0x4000
 
-// ladder is a rig with pages in which each vector has a gate; page 15 is not there.
-func ladder() state {
+// ladder is a rig of ring 3 with pages, in which each vector has a gate to the ring's own code; page 15 is not there. The task's stack of ring 2 lies behind Tr's Limit, that of ring 1 is not present.
+var ladder = func() func() state {
 	s := paged()
 	for vec := range 256 {
-		s.apply(fmt.Sprintf("gate=%x:8:%x:8E00", vec, ladderPlace+16*vec), 0)
+		s.apply(fmt.Sprintf("gate=%x:38:%x:8E00", vec, ladderPlace+16*vec), 0)
 	}
-	s.apply("B03C:00000000 gdt.limit=FFFF", 0)
-	return s
-}
+	s.apply("B03C:00000000 gdt.limit=FFFF in=3 tr.limit=13 words=1410:31 words=830:FFFF,CF3200", 0)
+	return s.clone
+}()
 
 // failings spoil a vector's gate, so that its delivery ends with a fault.
 type failing struct {
@@ -39,13 +39,9 @@ func failings() map[int]failing {
 	}
 }
 
-// spoiled is a ladder of ring 3, whose gates lead to its own ring; those of some vectors fail. The task's stack of ring 2 lies behind Tr's Limit, that of ring 1 is not present.
+// spoiled is a ladder whose gates fail, those of some vectors.
 func spoiled(with map[int]int) state {
 	s := ladder()
-	s.apply("in=3 tr.limit=13 words=1410:31 words=830:FFFF,CF3200", 0)
-	for vec := range 256 {
-		s.apply(fmt.Sprintf("gate=%x:38:%x:8E00", vec, ladderPlace+16*vec), 0)
-	}
 	for vec, second := range with {
 		s.apply(fmt.Sprintf("gate=%x:%s", vec, failings()[second].gate), 0)
 	}

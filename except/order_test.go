@@ -2,10 +2,12 @@ package except_test
 
 import (
 	"fmt"
+	"slices"
 	"testing"
 
 	"drawloom/api"
 	"drawloom/except"
+	"drawloom/exec"
 )
 
 // A scene is all that a delivery and its end look at, each word of it in a page of its own: the words of a gate and of descriptors lie across the ends of pages. Pages are marked from the beginning, so that only what is pushed changes memory.
@@ -54,9 +56,10 @@ func newScene(ring, inner int) *scene {
 	return s
 }
 
-// state is the scene in a rig's memory.
-func (s *scene) state() state {
-	r := state{mem: make([]byte, 16*4096), f: none}
+// state is the scene in a rig's memory, which is wiped first.
+func (s *scene) state(mem []byte) state {
+	clear(mem)
+	r := state{mem: mem, f: none}
 	esp, limit := s.stack()
 	r.lay(0x1000, 0x2067)
 	for n := range uint32(16) {
@@ -240,34 +243,34 @@ func aboutReturns(ring, outer, size int) []question {
 const endOfOld = oldPage*0x1000 + 0x1000
 
 // inOrder asks each question alone, with each later one, and with all later ones: the first one that holds is answered, and the processor is as it was.
-func inOrder(t *testing.T, what string, list []question, begin func() *scene, call func(s *scene, is state) state) {
+func inOrder(t *testing.T, what string, list []question, begin func() *scene, call func(e *exec.Env, s *scene) api.Fault) {
 	t.Helper()
-	ask := func(n int, later []question) {
-		s, names := begin(), ""
-		for i := len(later) - 1; i >= 0; i-- {
-			later[i].holds(s)
-			names += ", " + later[i].name
+	mem := make([]byte, 16*4096)
+	e := begin().state(mem).env(t)
+	ask := func(questions ...question) {
+		s, want, names := begin(), none, ""
+		for _, q := range slices.Backward(questions) {
+			q.holds(s)
+			want, names = q.f, q.name+", "+names
 		}
-		list[n].holds(s)
-		was := s.state()
-		is := call(s, was)
-		if is.f != list[n].f {
-			t.Errorf("%s: %s%s: %+v; want %+v", what, list[n].name, names, is.f, list[n].f)
+		was := s.state(mem)
+		e.Mem.Flush()
+		e.Mem.Ram().Load(0, mem)
+		e.Cpu = was.cpu
+		if f := call(e, s); f != want {
+			t.Errorf("%s: %s%+v; want %+v", what, names, f, want)
 		}
-		if is.cpu != was.cpu {
-			t.Errorf("%s: %s%s: %s", what, list[n].name, names, unlike(is.cpu, was.cpu))
-		}
-	}
-	for n := range list {
-		ask(n, nil)
-		ask(n, list[n+1:])
-		for i := n + 1; i < len(list); i++ {
-			ask(n, list[i:i+1])
+		if want != none && e.Cpu != was.cpu {
+			t.Errorf("%s: %s%s", what, names, unlike(e.Cpu, was.cpu))
 		}
 	}
-	s := begin()
-	if is := call(s, s.state()); is.f != none {
-		t.Errorf("%s: %+v, where nothing is asked", what, is.f)
+	ask()
+	for n, q := range list {
+		ask(q)
+		ask(list[n:]...)
+		for _, later := range list[n+1:] {
+			ask(q, later)
+		}
 	}
 }
 
@@ -285,9 +288,8 @@ func TestOrderOfEnter(t *testing.T) {
 					s.soft = soft
 					return s
 				}
-				inOrder(t, fmt.Sprintf("from ring %d to %d, soft %v", ring, inner, soft), list, begin, func(s *scene, is state) state {
-					e := is.env(t)
-					return stateOf(e, except.Enter(e, s.vec, 9, s.soft))
+				inOrder(t, fmt.Sprintf("from ring %d to %d, soft %v", ring, inner, soft), list, begin, func(e *exec.Env, s *scene) api.Fault {
+					return except.Enter(e, s.vec, 9, s.soft)
 				})
 			}
 		}
@@ -304,9 +306,8 @@ func TestOrderOfReturn(t *testing.T) {
 					s.size = size
 					return s
 				}
-				inOrder(t, fmt.Sprintf("from ring %d to %d, size %d", ring, outer, size), aboutReturns(ring, outer, size), begin, func(s *scene, is state) state {
-					e := is.env(t)
-					return stateOf(e, except.Return(e, s.size))
+				inOrder(t, fmt.Sprintf("from ring %d to %d, size %d", ring, outer, size), aboutReturns(ring, outer, size), begin, func(e *exec.Env, s *scene) api.Fault {
+					return except.Return(e, s.size)
 				})
 			}
 		}

@@ -200,7 +200,7 @@ func TestWhateverIsHandedIn(t *testing.T) {
 	}
 	e := s.env(t)
 	ended := map[bool]int{}
-	for range 200000 {
+	for range 60000 {
 		was := drawnCpu(r)
 		vec := r.Intn(256)
 		if r.Intn(4) == 0 {
